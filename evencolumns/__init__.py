@@ -1,0 +1,1 @@
+"""Evencolumns: lines of cells whose neighbouring cells get one width."""
