@@ -10,13 +10,7 @@ def blocks(page):
 
 def widths(page, gap, least):
     require_page_and_spacing(page, gap, least)
-    told = [[] for line in page]
-    # Blocks come by columns, so each line gets its widths from left to right.
-    for column, first, last in found_blocks(page):
-        width = block_width(block_cells(page, column, first, last), gap, least)
-        for number in range(first, last + 1):
-            told[number].append(width)
-    return told
+    return found_widths(page, gap, least)
 
 
 def forced(page, gap, least):
@@ -33,6 +27,16 @@ def found_blocks(page):
     found = []
     for column in range(max([closed_count(line) for line in page])):
         found.extend(column_blocks(page, column))
+    return found
+
+
+def found_widths(page, gap, least):
+    found = [[] for line in page]
+    # Blocks come by columns, so each line gets its widths from left to right.
+    for column, first, last in found_blocks(page):
+        width = block_width(block_cells(page, column, first, last), gap, least)
+        for number in range(first, last + 1):
+            found[number].append(width)
     return found
 
 

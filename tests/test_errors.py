@@ -1,9 +1,25 @@
 import unittest
 
 from evencolumns import errors
+from evencolumns.blocks import widths
 from evencolumns.errors import ColumnError
+from evencolumns.notes import read
+from evencolumns.setting import cut
+from evencolumns.sheet import Sheet
 
 NAMES = ("NoPage", "NoSpacing", "NoCut", "OnlyLine", "NoLine", "NoColumn", "Full", "NoText")
+
+# A call for each refusal that brings it about.
+CALLS = {
+    "NoPage": lambda: widths([], 1, 0),
+    "NoSpacing": lambda: widths([["a"]], 0, 0),
+    "NoCut": lambda: cut("ab", [2]),
+    "OnlyLine": lambda: Sheet([["a"]], 1, 0).take_out(0),
+    "NoLine": lambda: Sheet([["a"]], 1, 0).take_out(1),
+    "NoColumn": lambda: Sheet([["a"]], 1, 0).put(0, 1, "b"),
+    "Full": lambda: Sheet([["a"]] * 20, 1, 0).put_in(0, ["b"]),
+    "NoText": lambda: read("a b"),
+}
 
 
 class ErrorsTest(unittest.TestCase):
@@ -33,6 +49,15 @@ class ErrorsTest(unittest.TestCase):
             with self.subTest(name=name):
                 with self.assertRaises(ColumnError):
                     raise getattr(errors, name)("words")
+
+    def test_each_is_brought_about_by_a_call(self):
+        self.assertEqual(sorted(CALLS), sorted(NAMES))
+        for name, call in CALLS.items():
+            with self.subTest(name=name):
+                with self.assertRaises(ColumnError) as caught:
+                    call()
+                self.assertIs(type(caught.exception), getattr(errors, name))
+                self.assertIsInstance(caught.exception, ValueError)
 
 
 if __name__ == "__main__":

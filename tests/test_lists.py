@@ -3,11 +3,15 @@ import unittest
 
 from evencolumns.blocks import blocks, forced, widths
 from evencolumns.errors import NoPage, NoSpacing
+from evencolumns.notes import shown
+from evencolumns.setting import set_out, starts
 
 CALLS = {
     "blocks": blocks,
     "widths": lambda page: widths(page, 1, 4),
     "forced": lambda page: forced(page, 1, 4),
+    "set_out": lambda page: set_out(page, 1, 4),
+    "starts": lambda page: starts(page, 1, 4),
 }
 
 
@@ -33,7 +37,7 @@ class HandedInTest(unittest.TestCase):
                 self.assertEqual(page, [["a", "b"], ["a b", "c"], []])
 
     def test_page_is_as_it_was_where_the_spacing_is_refused(self):
-        for call in (widths, forced):
+        for call in (widths, forced, set_out, starts):
             page = some_page()
             self.assertRaises(NoSpacing, call, page, 0, 0)
             self.assertEqual(page, some_page())
@@ -50,6 +54,16 @@ class HandedInTest(unittest.TestCase):
                 page.pop()
                 self.assertEqual(told, kept)
 
+    def test_page_that_is_shown_is_as_it_was(self):
+        page = some_page()
+        told = shown(page)
+        self.assertEqual(page, some_page())
+        page[0][0] = "aaaaaaaa"
+        self.assertNotEqual(shown(page), told)
+        page = [["a", "b"], ["a b", "c"], []]
+        self.assertRaises(NoPage, shown, page)
+        self.assertEqual(page, [["a", "b"], ["a b", "c"], []])
+
     def test_changed_page_is_told_anew(self):
         page = [["a", "b"]]
         self.assertEqual((blocks(page), widths(page, 1, 0), forced(page, 1, 0)), ([(0, 0, 0)], [[2]], [(2, 0)]))
@@ -58,6 +72,9 @@ class HandedInTest(unittest.TestCase):
             (blocks(page), widths(page, 1, 0), forced(page, 1, 0)),
             ([(0, 0, 1)], [[4], [4]], [(4, 1)]),
         )
+        self.assertEqual((set_out(page, 1, 0), starts(page, 1, 0)), (["a   b", "aaa b"], [[0, 4], [0, 4]]))
+        page[1][0] = "aa"
+        self.assertEqual((set_out(page, 1, 0), starts(page, 1, 0)), (["a  b", "aa b"], [[0, 3], [0, 3]]))
 
     def test_one_list_may_stand_for_several_lines(self):
         line = ["a", "b", "c"]
@@ -95,22 +112,24 @@ class ToldTest(unittest.TestCase):
                 call([["a"]]).append("more")
                 self.assertEqual(call([["a"]]), [])
 
-    def test_change_of_one_list_of_widths_changes_no_other(self):
+    def test_change_of_one_lines_list_changes_no_other(self):
         page = some_page() + [["m"], ["n"]]
-        for number in range(len(page)):
-            told = widths(page, 1, 4)
-            kept = copy.deepcopy(told)
-            told[number].append(99)
-            kept[number] = kept[number] + [99]
-            self.assertEqual(told, kept)
-            self.assertEqual(widths(page, 1, 4)[number] + [99], told[number])
+        for call in (CALLS["widths"], CALLS["starts"]):
+            for number in range(len(page)):
+                told = call(page)
+                kept = copy.deepcopy(told)
+                told[number].append(99)
+                kept[number] = kept[number] + [99]
+                self.assertEqual(told, kept)
+                self.assertEqual(call(page)[number] + [99], told[number])
 
-    def test_no_two_lists_of_widths_are_one(self):
+    def test_no_two_lists_for_lines_are_one(self):
         page = some_page() + [["m"], ["n"]]
-        first, second = widths(page, 1, 4), widths(page, 1, 4)
-        lists = [first, second] + first + second
-        self.assertEqual(len({id(one) for one in lists}), len(lists))
-        self.assertFalse({id(one) for one in lists} & {id(one) for one in [page] + page})
+        for call in (CALLS["widths"], CALLS["starts"]):
+            first, second = call(page), call(page)
+            lists = [first, second] + first + second
+            self.assertEqual(len({id(one) for one in lists}), len(lists))
+            self.assertFalse({id(one) for one in lists} & {id(one) for one in [page] + page})
 
 
 if __name__ == "__main__":

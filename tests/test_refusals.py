@@ -2,6 +2,11 @@ import unittest
 
 from evencolumns.blocks import blocks, forced, widths
 from evencolumns.errors import NoPage, NoSpacing
+from evencolumns.notes import shown
+from evencolumns.setting import set_out, starts
+from evencolumns.sheet import Sheet
+
+SPACED = (widths, forced, set_out, starts, Sheet)
 
 NO_PAGES = {
     "no lines": [],
@@ -56,20 +61,27 @@ class NoPageTest(unittest.TestCase):
         for words, page in NO_PAGES.items():
             with self.subTest(words):
                 self.assertRaises(NoPage, blocks, page)
-                self.assertRaises(NoPage, widths, page, 1, 0)
-                self.assertRaises(NoPage, forced, page, 1, 0)
+                self.assertRaises(NoPage, shown, page)
+                for call in SPACED:
+                    self.assertRaises(NoPage, call, page, 1, 0)
 
     def test_edges_are_taken_by_each_function(self):
         for words, page in PAGES.items():
             with self.subTest(words):
                 self.assertEqual(len(blocks(page)), len(forced(page, 1, 0)))
                 self.assertEqual(len(widths(page, 1, 0)), len(page))
+                self.assertEqual(len(set_out(page, 1, 0)), len(page))
+                self.assertEqual(len(starts(page, 1, 0)), len(page))
+                self.assertEqual(Sheet(page, 1, 0).page(), page)
+                self.assertEqual(len(shown(page).split("\n")), len(page))
 
     def test_each_sign_of_a_cell_is_taken(self):
         for code in range(ord("!"), ord("~") + 1):
             sign = chr(code)
             if sign != "%":
                 self.assertEqual(widths([[sign, sign]], 1, 0), [[2]], sign)
+                self.assertEqual(set_out([[sign, sign]], 1, 0), [sign + " " + sign], sign)
+                self.assertEqual(shown([[sign, sign]]), sign + "\t" + sign, sign)
 
     def test_each_other_sign_is_refused_at_each_place(self):
         for sign in (" ", "\t", "\n"):
@@ -83,14 +95,14 @@ class NoSpacingTest(unittest.TestCase):
     def test_refused_by_each_function(self):
         for gap, least in NO_SPACINGS:
             with self.subTest(gap=gap, least=least):
-                self.assertRaises(NoSpacing, widths, [["a", "b"]], gap, least)
-                self.assertRaises(NoSpacing, forced, [["a", "b"]], gap, least)
+                for call in SPACED:
+                    self.assertRaises(NoSpacing, call, [["a", "b"]], gap, least)
 
     def test_refused_for_a_page_of_no_block_too(self):
         for gap, least in NO_SPACINGS:
             with self.subTest(gap=gap, least=least):
-                self.assertRaises(NoSpacing, widths, [["a"]], gap, least)
-                self.assertRaises(NoSpacing, forced, [["a"]], gap, least)
+                for call in SPACED:
+                    self.assertRaises(NoSpacing, call, [["a"]], gap, least)
 
     def test_every_spacing_is_taken(self):
         for gap, least in SPACINGS:
@@ -98,13 +110,16 @@ class NoSpacingTest(unittest.TestCase):
                 width = max(3 + gap, least)
                 self.assertEqual(widths([["abc", "d"]], gap, least), [[width]])
                 self.assertEqual(forced([["abc", "d"]], gap, least), [(width, 0 if 3 + gap >= least else None)])
+                self.assertEqual(set_out([["abc", "d"]], gap, least), ["abc" + " " * (width - 3) + "d"])
+                self.assertEqual(starts([["abc", "d"]], gap, least), [[0, width]])
+                self.assertEqual(Sheet([["abc", "d"]], gap, least).lines(), set_out([["abc", "d"]], gap, least))
 
     def test_no_page_goes_ahead_of_no_spacing(self):
         for words, page in NO_PAGES.items():
             for gap, least in NO_SPACINGS:
                 with self.subTest(words, gap=gap, least=least):
-                    self.assertRaises(NoPage, widths, page, gap, least)
-                    self.assertRaises(NoPage, forced, page, gap, least)
+                    for call in SPACED:
+                        self.assertRaises(NoPage, call, page, gap, least)
 
 
 if __name__ == "__main__":
